@@ -1,0 +1,1 @@
+"""Likebook: books of judged cases that bind."""
