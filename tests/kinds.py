@@ -1,4 +1,7 @@
-"""Things for tests: what is no text, no name, no degree, and how a refusal is looked at."""
+"""Things for tests: what is no text, no name, no degree, no side; how a refusal is looked at; small packs, cases and
+books, and what the document says of them, apart from the program."""
+
+import itertools
 
 from likebook import errors
 
@@ -56,3 +59,78 @@ def assert_refused(test, kind, call, *handed):
     test.assertIsInstance(refusal, ValueError)
     test.assertEqual([kind], [one for one in REFUSALS if isinstance(refusal, one)])
     return refusal
+
+
+def no_sides():
+    """What is no side, of any kind, also texts near for and against."""
+    return no_texts() + [
+        "", "For", "FOR", "Against", "AGAINST", "for ", " for", "for\n", "against ", "\nagainst", "fo", "fors",
+        "againsts", "agains", "forr", "for against", "foragainst", "none", "late", "both", "0", "1", "True", "-",
+        ["for"], ["for", "against"], ("for",), ("against",), ("for", "against"), {"for": 1}, {"against": "for"},
+        {"for"}, b"for", b"against",
+    ]
+
+
+def packs_of(tops):
+    """Every pack of these names with degrees up to their tops, which stand by the names in a dict."""
+    names = sorted(tops)
+    ranges = [range(tops[name] + 1) for name in names]
+    return [
+        tuple((name, amount) for name, amount in zip(names, amounts) if amount) for amounts in itertools.product(*ranges)
+    ]
+
+
+def cases_of(fors, againsts):
+    return [(one, other) for one in packs_of(fors) for other in packs_of(againsts)]
+
+
+def rulings_of(case):
+    """Every ruling of the case, for both sides."""
+    return [
+        (case, side, reason)
+        for side, held in zip(("for", "against"), case) for reason in packs_of(dict(held))
+    ]
+
+
+def is_within(one, other):
+    """The document's words, apart from the program."""
+    return all(amount <= dict(other).get(name, 0) for name, amount in one)
+
+
+def own_pack(case, side):
+    return {"for": case[0], "against": case[1]}[side]
+
+
+def opposed_pack(case, side):
+    return {"for": case[1], "against": case[0]}[side]
+
+
+def is_bound_by(one, case):
+    return is_within(one[2], own_pack(case, one[1])) and is_within(opposed_pack(case, one[1]), opposed_pack(one[0], one[1]))
+
+
+def stand_against(one, other):
+    return (
+        one[1] != other[1] and is_within(one[2], opposed_pack(other[0], other[1]))
+        and is_within(other[2], opposed_pack(one[0], one[1]))
+    )
+
+
+def some_pack(chance, tops):
+    return tuple((name, amount) for name in sorted(tops) if (amount := chance.randint(0, tops[name])))
+
+
+def some_ruling(chance, fors, againsts):
+    case = (some_pack(chance, fors), some_pack(chance, againsts))
+    side = chance.choice(("for", "against"))
+    return (case, side, some_pack(chance, dict(own_pack(case, side))))
+
+
+def whole_book(chance, length, fors, againsts):
+    """A book grown by allowed rulings alone, at most this long."""
+    book = []
+    for turn in range(3 * length):
+        one = some_ruling(chance, fors, againsts)
+        if len(book) < length and not any(stand_against(one, other) for other in book):
+            book.append(one)
+    return book
