@@ -134,3 +134,8 @@ def whole_book(chance, length, fors, againsts):
         if len(book) < length and not any(stand_against(one, other) for other in book):
             book.append(one)
     return book
+
+
+def no_courts():
+    """What is no court where high, low and side are told."""
+    return no_texts() + ["", "High", "high ", "lo", "lows", "other", "high low", "high\n", ("high",), ["high"], {"high": None}]

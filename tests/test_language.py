@@ -2,6 +2,7 @@
 
 import ast
 import builtins
+import functools
 import pathlib
 import re
 import unittest
@@ -47,14 +48,17 @@ NO_WORDS = re.compile(
 )
 
 
+@functools.cache
 def sources():
     return [(path.name, path.read_text(encoding="utf-8")) for path in sorted(PACKAGE.glob("*.py"))]
 
 
+@functools.cache
 def trees():
     return [(name, ast.parse(text)) for name, text in sources()]
 
 
+@functools.cache
 def own_methods():
     classes = [node for name, tree in trees() for node in tree.body if isinstance(node, ast.ClassDef)]
     return {one.name for node in classes for one in node.body if isinstance(one, ast.FunctionDef)}
