@@ -21,8 +21,8 @@ def tests_of_one(one, number, first):
     return asks + [("bound", one[1], number)]
 
 
+# The tests of a ruling, still without where they lead to.
 def heads_of(one):
-    """The tests of a ruling, still without where they lead to."""
     side = one[1]
     other = other_side(side)
     opposed = opposed_of(one)

@@ -6,8 +6,8 @@ from likebook.errors import Late, NoRuling, NotAllowed, NotYours
 from likebook.rulings import against, ruling
 
 
+# Whether the ruling of this fate stood when all deeds up to that day were done; of no day, whether it stands.
 def stood(fate, day):
-    """Whether the ruling of this fate stood when all deeds up to that day were done; of no day, whether it stands."""
     if day is None:
         return len(fate) == 1
     return fate[0][1] <= day and (len(fate) == 1 or fate[1][1] > day)
@@ -67,8 +67,8 @@ class House:
     def book(self, court, word):
         return self.rulings_at(self.standing(court, word))
 
+    # The numbers of all rulings about the word that stood on the day, of whatever courts.
     def about(self, word, day):
-        """The numbers of all rulings about the word that stood on the day, of whatever courts."""
         return [
             k for k, entry in enumerate(self.entries)
             if entry[1] == word and stood(self.fates[k], day)

@@ -47,8 +47,8 @@ def marrow(book):
     return sorted([core(book[k]) for k in kept(book)])
 
 
+# A tuple (case, side) of a case that the first book binds to the side and the second doesn't, or None.
 def bound_here_alone(here, there):
-    """A tuple (case, side) of a case that the first book binds to the side and the second doesn't, or None."""
     for side, reason, opposed in marrow(here):
         # The least that a ruling binds: who binds it to this side covers that ruling.
         case = case_with(side, reason, opposed)

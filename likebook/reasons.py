@@ -19,8 +19,8 @@ def least_reasons(book, case, side):
     return sorted(least)
 
 
+# The least packs within held that have one of least within them and are not within reach themselves.
 def beyond(least, held, reach):
-    """The least packs within held that have one of least within them and are not within reach themselves."""
     free = [one for one in least if not within(one, reach)]
     caught = [one for one in least if within(one, reach)]
     found = list(free)

@@ -139,3 +139,49 @@ def whole_book(chance, length, fors, againsts):
 def no_courts():
     """What is no court where high, low and side are told."""
     return no_texts() + ["", "High", "high ", "lo", "lows", "other", "high low", "high\n", ("high",), ["high"], {"high": None}]
+
+
+def some_saying(chance, facts, words, deep):
+    """A saying as a text: facts with and without >=, opens and words."""
+    if deep == 1 or chance.random() < 0.3:
+        name = chance.choice(facts + words)
+        return name + (f" >= {chance.choice((1, 2))}" if name in facts and chance.random() < 0.4 else "")
+    if chance.random() < 0.4:
+        return f"not {some_saying(chance, facts, words, deep - 1)}"
+    one, other = some_saying(chance, facts, words, deep - 1), some_saying(chance, facts, words, deep - 1)
+    return f"( {one} {chance.choice(('and', 'or'))} {other} )"
+
+
+def some_asking(chance, facts, words, deep):
+    if deep == 2 or chance.random() < 0.4:
+        return f"{chance.choice(('some', 'all'))} {some_saying(chance, facts, words, deep - 1)}"
+    if chance.random() < 0.4:
+        return f"not {some_asking(chance, facts, words, deep - 1)}"
+    one, other = some_asking(chance, facts, words, deep - 1), some_asking(chance, facts, words, deep - 1)
+    return f"( {one} {chance.choice(('and', 'or'))} {other} )"
+
+
+def some_act(chance, facts, kinds, deep):
+    """An act as a text: the facts, and behind them a row of each of these kinds, opens at most four."""
+    rows, words = [f"fact {name}" for name in facts], []
+    for name, kind in zip("opqrstuv", kinds):
+        if kind == "open":
+            lists = [chance.sample(facts + words, chance.randint(0, min(3, len(facts + words)))) for turn in "ab"]
+            rows.append(" ".join(["open", name, "for"] + lists[0] + ["against"] + lists[1]))
+            words.append(name)
+        elif kind == "claim":
+            rows.append(f"claim {name} if {some_asking(chance, facts, words, deep)}")
+        else:
+            rows.append(f"word {name} if {some_saying(chance, facts, words, deep)}")
+            words.append(name)
+    return "\n".join(rows)
+
+
+def tops_of(act, row, top):
+    """For an open's row, the greatest degrees by names of both its lists: facts up to top, words up to 1."""
+    facts = [one[1] for one in act if one[0] == "fact"]
+    return [{name: top if name in facts else 1 for name in names} for names in row[2:]]
+
+
+def some_books(chance, act, length, top):
+    return {row[1]: whole_book(chance, length, *tops_of(act, row, top)) for row in act if row[0] == "open"}

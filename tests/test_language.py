@@ -134,6 +134,8 @@ class Language(unittest.TestCase):
             self.assertLessEqual(len(node.bases), 1, place)
             for part in node.body:
                 self.assertIsInstance(part, (ast.FunctionDef, ast.Pass), place)
+        elif isinstance(node, ast.Expr) and node.lineno > 1:
+            self.assertIsInstance(node.value, ast.Call, place)
         elif isinstance(node, ast.Assign):
             self.assertEqual(1, len(node.targets), place)
             self.assertNotIsInstance(node.targets[0], (ast.Tuple, ast.List), place)
