@@ -84,9 +84,12 @@ class House:
         entry = self.entries[number]
         return entry[0] != court and court in self.courts.line(entry[0]) and against(entry[2], made)
 
-    def check_deed(self, day, court):
-        # The line alone is asked for: it refuses what is no court.
+    def check_court(self, court):
+        # Nothing but its refusal is asked for here.
         self.courts.line(court)
+
+    def check_deed(self, day, court):
+        self.check_court(court)
         if self.last_day is not None and day < self.last_day:
             raise Late("a deed was done on a later day")
 
