@@ -7,7 +7,6 @@ from likebook.readings import MOST_USES, asking_of, open_uses, settled
 from likebook.rulings import opposed_of
 
 MOST_ASKED = 14
-TOP = 10 ** 30
 
 
 def clerk(act, books, many, claim):
@@ -121,7 +120,7 @@ def marks_of_ruling(row, one, facts):
     opposed = opposed_of(one)
     found = [(name, amount) for name, amount in one[2] if name in own]
     # No degree is above the top, so there is nothing to be asked.
-    found.extend([(name, degree(opposed, name) + 1) for name in others if degree(opposed, name) < TOP])
+    found.extend([(name, degree(opposed, name) + 1) for name in others if degree(opposed, name) < 10 ** 30])
     return found
 
 
@@ -136,7 +135,7 @@ def things_like(many, answers):
         elif yes:
             lows[question[1:3]] = max(question[3], lows.get(question[1:3], 0))
         else:
-            highs[question[1:3]] = min(question[3] - 1, highs.get(question[1:3], TOP))
+            highs[question[1:3]] = min(question[3] - 1, highs.get(question[1:3], question[3]))
     degrees = raised(many, lows, gaps)
     if not fits(degrees, highs, gaps):
         return None
@@ -163,7 +162,7 @@ def fits(degrees, highs, gaps):
     for upper, lower, step in gaps:
         if degrees.get(upper, 0) < degrees.get(lower, 0) + step:
             return False
-    return all([amount <= highs.get(key, TOP) for key, amount in degrees.items()])
+    return all([amount <= highs.get(key, 10 ** 30) for key, amount in degrees.items()])
 
 
 def thing_of(number, degrees):

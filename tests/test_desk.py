@@ -294,6 +294,14 @@ class Refused(unittest.TestCase):
                 "claim none none armed", "claim none freed - - -", "stands none none", "stands none cruel"):
             self.refuse(NoCourt, row)
 
+    def test_an_untold_court_where_there_are_no_open_words(self):
+        one = Desk()
+        assert_refused(self, NoCourt, one.say, "claim high freed")
+        one.say("act\nfact a\nclaim c if some a")
+        assert_refused(self, NoCourt, one.say, "claim high c a")
+        assert_refused(self, NoCourt, one.say, "stands high c")
+        assert_refused(self, NoCourt, one.say, "bound high c - -")
+
     def test_unknown_ahead_of_the_rest(self):
         for name in ("none", "harsh", "armed", "freed"):
             for row in (

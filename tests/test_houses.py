@@ -357,7 +357,7 @@ class Refused(unittest.TestCase):
         one.enter(1, "low", "cruel", *PRO)
         one.enter(1, "low", "cruel", *PRO)
         one.overrule(1, "low", 1)
-        for number in (2, -1, -2, 10 ** 30):
+        for number in (2, -1, -2, 10 ** 30, True, False, None, "0", [0]):
             assert_refused(self, NoRuling, one.overrule, 1, "low", number)
             assert_refused(self, NoRuling, one.ruling_of, number)
             assert_refused(self, NoRuling, one.fate, number)

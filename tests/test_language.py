@@ -192,6 +192,9 @@ class Language(unittest.TestCase):
             for node in tree.body[1:]:
                 self.assertIsInstance(node, (ast.ImportFrom, ast.FunctionDef, ast.ClassDef, ast.Assign), name)
                 if isinstance(node, ast.Assign):
+                    for one in ast.walk(node.value):
+                        self.assertIsInstance(
+                            one, (ast.Constant, ast.Name, ast.List, ast.Tuple, ast.Dict, ast.expr_context), (name, node.lineno))
                     inner = [one for one in ast.walk(node.value) if isinstance(one, (ast.List, ast.Dict))]
                     self.assertIn(inner, ([], [node.value]), (name, node.lineno))
             told = told_at_the_top(tree) + list(imports_of(tree))
